@@ -1,0 +1,1 @@
+"""Standwaves: which waves go on for ever in rings of seats."""

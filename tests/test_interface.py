@@ -1,0 +1,62 @@
+"""The interface: names, arguments, and the file in which each is defined."""
+
+import importlib
+import inspect
+import unittest
+
+FUNCTIONS = {
+    "kinds": ["is_integer(thing)", "is_count(thing)", "is_number(thing)", "is_row(thing, signs)",
+              "is_stand(thing, signs)", "is_table(thing)"],
+    "stands": ["turned_by(text, places)", "mirror_of(text)", "least_turn(text)", "least_part(text)",
+               "window_at(text, seat, reach)", "all_turns(text)", "turns_between(text, other)",
+               "all_stands(signs, size)", "from_windows(rows)"],
+}
+CLASSES = {
+    "rules": {"Rule": ["__init__(self, table, rests=1)", "__call__(self, left, seat, right)",
+                       "ring_after(self, text)", "inner_after(self, row)", "mirrored(self)",
+                       "with_bit(self, place)", "all_of(rests)", "stirs(self, text)",
+                       "is_still(self, text)"]},
+}
+PROPERTIES = {"Rule": ["table", "rests", "signs"]}
+OPERATORS = {"Rule": ["__eq__"]}
+
+
+def shown(name, function):
+    """Returns a function's name with its arguments."""
+    return name + str(inspect.signature(function))
+
+
+class InterfaceTest(unittest.TestCase):
+
+    def test_functions(self):
+        for file, wanted in FUNCTIONS.items():
+            module = importlib.import_module(f"standwaves.{file}")
+            for line in wanted:
+                name = line.split("(")[0]
+                function = getattr(module, name)
+                self.assertTrue(inspect.isfunction(function), name)
+                self.assertEqual(function.__module__, module.__name__)
+                self.assertEqual(shown(name, function), line)
+
+    def test_methods_stand_in_the_class_itself(self):
+        for file, classes in CLASSES.items():
+            module = importlib.import_module(f"standwaves.{file}")
+            for class_name, wanted in classes.items():
+                own = getattr(module, class_name)
+                self.assertEqual(own.__module__, module.__name__)
+                for line in wanted:
+                    name = line.split("(")[0]
+                    self.assertIn(name, vars(own))
+                    self.assertEqual(shown(name, inspect.unwrap(getattr(own, name))), line)
+                for name in OPERATORS[class_name]:
+                    self.assertIn(name, vars(own))
+                for name in PROPERTIES[class_name]:
+                    self.assertIsInstance(vars(own)[name], property)
+
+    def test_static_methods(self):
+        rules = importlib.import_module("standwaves.rules")
+        self.assertIsInstance(vars(rules.Rule)["all_of"], staticmethod)
+
+
+if __name__ == "__main__":
+    unittest.main()
