@@ -20,7 +20,40 @@ STANDS = '''
 ['12012', '012']
 '''
 
-EXAMPLES = [STAGE_1, STANDS]
+RUNS = '''
+>>> from standwaves.runs import after, fate_of, path_of, row_after, standers, still_from, turning_fate
+>>> [path_of(rule, "100"), fate_of(rule, "100"), still_from(rule, "100"), fate_of(rule, "012"), turning_fate(rule, "012")]
+[['100', '211', '022', '000'], (3, 1), 3, (0, 3), (0, 1, 2)]
+>>> [after(rule, "10000", 2), row_after(rule, "0010000", 2), standers(rule, "100", 3)]
+['02112', '021', [1, 2, 0, 0]]
+'''
+
+SPREAD = '''
+>>> from standwaves.spread import all_heal, apart_pair, healed_after, matters_after, scar_of, spread_of, unlike_seats
+>>> [matters_after(rule, 1), apart_pair(rule, 1, 0), unlike_seats(rule, "0000", "0100", 1), spread_of(rule, "00000", 2, "1", 3)]
+[[-1, 0, 1], ('000', '010'), [0, 1, 2], [1, 3, 4, 2]]
+>>> [healed_after(rule, "0000", 0, "1"), all_heal(rule, 2), scar_of(rule, 3), matters_after(Rule("0000"), 2)]
+[4, True, ('001', 0, '2'), []]
+'''
+
+WEBS = '''
+>>> from standwaves.webs import Web
+>>> web = Web(rule, 1, 1)
+>>> [web.nodes(), web.steps()["10"], len(web.windows()), web.parts() == [web.nodes()], web.periods()]
+[['00', '02', '10', '21'], ['00', '02'], 11, True, [1]]
+>>> [web.walk_of("021"), web.stand_of(["10", "02", "21"]), web.walk_of("012"), web.is_closed(["00"])]
+[['10', '02', '21'], '021', None, True]
+'''
+
+SHAPES = '''
+>>> from standwaves.shapes import is_basic, is_shape, least_shape, paces, shapes_of
+>>> [is_shape(rule, "021", 1, 1), is_shape(rule, "021", -2, 1), paces(rule, "021", 3), is_basic(rule, "021", 2, 2)]
+[True, True, [(1, 1), (2, 2), (3, 0)], False]
+>>> [shapes_of(rule, 1, 1, 4), least_shape(rule, 1, 1, 5), least_shape(rule, 0, 1, 5)]
+[['0000', '0021', '0210', '1002', '2100'], '00021', None]
+'''
+
+EXAMPLES = [STAGE_1, STANDS, RUNS, SPREAD, WEBS, SHAPES]
 
 
 class ExamplesTest(unittest.TestCase):

@@ -10,15 +10,27 @@ FUNCTIONS = {
     "stands": ["turned_by(text, places)", "mirror_of(text)", "least_turn(text)", "least_part(text)",
                "window_at(text, seat, reach)", "all_turns(text)", "turns_between(text, other)",
                "all_stands(signs, size)", "from_windows(rows)"],
+    "runs": ["after(rule, text, many)", "row_after(rule, row, many)", "late_after(rule, text, many)",
+             "path_of(rule, text)", "standers(rule, text, many)", "fate_of(rule, text)",
+             "turning_fate(rule, text)", "still_from(rule, text)"],
+    "spread": ["matters_after(rule, many)", "unlike_seats(rule, one, other, many)",
+               "spread_of(rule, text, seat, sign, many)", "apart_pair(rule, many, d)",
+               "scar_of(rule, size)", "changed_seat(text, seat, sign)",
+               "healed_after(rule, text, seat, sign)", "all_heal(rule, size)"],
+    "shapes": ["is_shape(rule, text, p, q)", "is_basic(rule, text, p, q)", "paces(rule, text, most)",
+               "shapes_of(rule, p, q, size)", "least_shape(rule, p, q, size)"],
 }
 CLASSES = {
     "rules": {"Rule": ["__init__(self, table, rests=1)", "__call__(self, left, seat, right)",
                        "ring_after(self, text)", "inner_after(self, row)", "mirrored(self)",
                        "with_bit(self, place)", "all_of(rests)", "stirs(self, text)",
                        "is_still(self, text)"]},
+    "webs": {"Web": ["__init__(self, rule, p, q)", "windows(self)", "nodes(self)", "parts(self)",
+                     "periods(self)", "steps(self)", "is_closed(self, thing)", "stand_of(self, thing)",
+                     "walk_of(self, text)"]},
 }
-PROPERTIES = {"Rule": ["table", "rests", "signs"]}
-OPERATORS = {"Rule": ["__eq__"]}
+PROPERTIES = {"Rule": ["table", "rests", "signs"], "Web": ["rule", "p", "q"]}
+OPERATORS = {"Rule": ["__eq__"], "Web": ["__eq__", "__len__"]}
 
 
 def shown(name, function):

@@ -1,0 +1,141 @@
+"""Good windows as steps between rows, and the closed walks of such steps."""
+
+from math import gcd
+
+from standwaves.runs import row_after
+from standwaves.stands import all_stands
+
+
+def good_windows(rule, p, q):
+    """Returns the ascending list of the good windows of a shape (p, q)."""
+    # A p beyond q asks for a seat outside of what the middle depends on.
+    reach = max(q, abs(p))
+    rows = all_stands(rule.signs, 2 * reach + 1)
+    return [row for row in rows
+            if row_after(rule, row[reach - q:reach + q + 1], q) == row[reach - p]]
+
+
+def steps_by(windows):
+    """Returns the dict from each row to the rows to which windows lead, all ascending."""
+    steps = {}
+    for window in sorted(windows):
+        steps.setdefault(window[:-1], []).append(window[1:])
+        steps.setdefault(window[1:], [])
+    return {row: steps[row] for row in sorted(steps)}
+
+
+def _steps_back(steps):
+    """Returns the dict from each row to the rows from which steps lead to it."""
+    back = {row: [] for row in steps}
+    for row in steps:
+        for other in steps[row]:
+            back[other].append(row)
+    return back
+
+
+def _leaving_order(steps):
+    """Returns the rows in the order in which a search in depth leaves them."""
+    order = []
+    seen = {}
+    for first in steps:
+        waiting = [(first, False)]
+        while waiting:
+            row, is_done = waiting.pop()
+            if is_done:
+                order.append(row)
+            elif row not in seen:
+                seen[row] = True
+                waiting.append((row, True))
+                waiting.extend([(other, False) for other in steps[row]])
+    return order
+
+
+def _reached(steps, first, taken):
+    """Returns the dict of the rows that are reached from the first one through none that is taken."""
+    found = {}
+    waiting = [first]
+    while waiting:
+        row = waiting.pop()
+        if row not in taken and row not in found:
+            found[row] = True
+            waiting.extend(steps[row])
+    return found
+
+
+def parts_by(steps):
+    """Returns the list of the parts, each as an ascending list, by their first rows."""
+    # Of the rows that are not taken, the one that was left last leads to each
+    # that leads to it: so what is reached from it backwards is its own part.
+    back = _steps_back(steps)
+    taken = {}
+    parts = []
+    for first in reversed(_leaving_order(steps)):
+        if first not in taken:
+            found = _reached(back, first, taken)
+            taken.update(found)
+            if len(found) > 1 or first in steps[first]:
+                parts.append(sorted(found))
+    return sorted(parts)
+
+
+def steps_in(steps, parts):
+    """Returns the dict, rows ascending, of the steps that stay within a part."""
+    part_of = {row: number for number, part in enumerate(parts) for row in part}
+    return {row: [other for other in steps[row] if part_of.get(other) == part_of[row]]
+            for row in sorted(part_of)}
+
+
+def period_of(steps, part):
+    """Returns the greatest integer of which the lengths of all closed walks in a part are multiples."""
+    # Each step that does not lead just one farther from the first row closes
+    # walks whose lengths differ by so much.
+    far = {part[0]: 0}
+    waiting = [part[0]]
+    period = 0
+    while waiting:
+        row = waiting.pop()
+        for other in steps[row]:
+            if other not in far:
+                far[other] = far[row] + 1
+                waiting.append(other)
+            period = gcd(period, far[row] + 1 - far[other])
+    return period
+
+
+def _either(masks):
+    """Returns the integer that has the bits of all of these."""
+    total = 0
+    for mask in masks:
+        total |= mask
+    return total
+
+
+def _reaches(steps, most):
+    """Returns the list of dicts, for 0 to most steps, from each row to the rows where they can end.
+
+    These are an integer, whose bit k stands for row k.
+    """
+    reaches = [{row: 1 << place for place, row in enumerate(steps)}]
+    for _ in range(most):
+        ahead = reaches[-1]
+        reaches.append({row: _either([ahead[other] for other in steps[row]]) for row in steps})
+    return reaches
+
+
+def stands_round(steps, size):
+    """Yields, ascending, the stands of size seats whose rows from each seat on are a closed walk."""
+    if size < 1:
+        return
+    reaches = _reaches(steps, size)
+    for place, first in enumerate(steps):
+        waiting = [(first, "")]
+        while waiting:
+            row, text = waiting.pop()
+            left = size - len(text)
+            # Only rows from which the walk can still be closed in time are
+            # gone on from, so that nothing is tried in vain.
+            if reaches[left][row] >> place & 1:
+                if left == 0:
+                    yield text
+                else:
+                    waiting.extend([(other, text + row[0]) for other in reversed(steps[row])])

@@ -1,0 +1,147 @@
+"""[5] windows, [6] walks, [10] sides, [11] repeats, as far as the files that are there go."""
+
+import unittest
+
+from standwaves.rules import Rule
+from standwaves.runs import (
+    after, fate_of, late_after, path_of, row_after, standers, still_from, turning_fate)
+from standwaves.shapes import is_basic, is_shape, paces, shapes_of
+from standwaves.spread import (
+    all_heal, apart_pair, changed_seat, healed_after, matters_after, spread_of, unlike_seats)
+from standwaves.stands import (
+    all_turns, from_windows, least_part, least_turn, mirror_of, turned_by, turns_between, window_at)
+from standwaves.webs import Web
+from tests.plain import plain_stands, some_rules
+
+
+def some_stands(rule):
+    """Returns stands of one seat, of two, of three, and greater ones."""
+    last = rule.signs[-1]
+    small = [text for size in (1, 2, 3) for text in plain_stands(rule, size)]
+    return small + ["0010" + last, "1000" + last + "0", "0110" + last + "00"]
+
+
+class WindowsTest(unittest.TestCase):
+    """[5]"""
+
+    def test_a_seat_depends_on_its_window_alone(self):
+        for rule in some_rules():
+            for text in some_stands(rule) + ["01" * 20]:
+                for q in (0, 1, 2, 3, 7):
+                    later = after(rule, text, q)
+                    told = [row_after(rule, window_at(text, seat, q), q) for seat in range(len(text))]
+                    self.assertEqual(told, list(later))
+
+
+class WalksTest(unittest.TestCase):
+    """[6]"""
+
+    def test_shapes_are_closed_walks(self):
+        for rule in some_rules():
+            for q in range(1, 3 if rule.rests < 2 else 2):
+                for p in range(-q, q + 1):
+                    web = Web(rule, p, q)
+                    for text in some_stands(rule):
+                        told = is_shape(rule, text, p, q)
+                        self.assertIs(web.walk_of(text) is not None, told)
+                        rows = [window_at(text, seat, q)[:-1] for seat in range(len(text))]
+                        self.assertIs(web.is_closed(rows), told)
+
+
+class SidesTest(unittest.TestCase):
+    """[10]"""
+
+    def test_rules(self):
+        for rule in some_rules():
+            other = rule.mirrored()
+            for text in some_stands(rule):
+                back = mirror_of(text)
+                self.assertEqual(other.ring_after(back), mirror_of(rule.ring_after(text)))
+                self.assertEqual(other.inner_after(back), mirror_of(rule.inner_after(text)))
+                self.assertIs(other.stirs(back), rule.stirs(text))
+                self.assertIs(other.is_still(back), rule.is_still(text))
+            for left in rule.signs:
+                for seat in rule.signs:
+                    for right in rule.signs:
+                        self.assertEqual(other(right, seat, left), rule(left, seat, right))
+
+    def test_stands(self):
+        for text in some_stands(Rule("0111")):
+            back, size = mirror_of(text), len(text)
+            self.assertEqual(turned_by(back, -2), mirror_of(turned_by(text, 2)))
+            self.assertEqual(all_turns(back), sorted(mirror_of(turn) for turn in all_turns(text)))
+            self.assertEqual(least_turn(least_part(back) * (size // len(least_part(back)))), least_turn(back))
+            self.assertEqual(len(least_part(back)), len(least_part(text)))
+            for seat in range(size):
+                self.assertEqual(window_at(back, size - 1 - seat, 4), mirror_of(window_at(text, seat, 4)))
+            rows = [mirror_of(window_at(text, seat, 1)) for seat in reversed(range(size))]
+            self.assertEqual(from_windows(rows), back)
+            turned = turned_by(text, 1)
+            told = sorted(-places % size for places in turns_between(text, turned))
+            self.assertEqual(turns_between(back, mirror_of(turned)), told)
+
+    def test_runs(self):
+        for rule in some_rules():
+            other = rule.mirrored()
+            for text in some_stands(rule):
+                back, size = mirror_of(text), len(text)
+                self.assertEqual(path_of(other, back), [mirror_of(stand) for stand in path_of(rule, text)])
+                self.assertEqual(fate_of(other, back), fate_of(rule, text))
+                self.assertEqual(turning_fate(other, back)[:2], turning_fate(rule, text)[:2])
+                self.assertEqual(late_after(other, back, 10 ** 9), mirror_of(late_after(rule, text, 10 ** 9)))
+                self.assertEqual(still_from(other, back), still_from(rule, text))
+                self.assertEqual(standers(other, back, 4), standers(rule, text, 4))
+                told = sorted((q, -p % size) for q, p in paces(rule, text, 4))
+                self.assertEqual(paces(other, back, 4), told)
+                self.assertIs(is_basic(other, back, -1, 2), is_basic(rule, text, 1, 2))
+
+    def test_spread(self):
+        for rule in some_rules():
+            other = rule.mirrored()
+            self.assertEqual(matters_after(other, 1), sorted(-d for d in matters_after(rule, 1)))
+            for d in (-1, 0, 1):
+                self.assertIs(apart_pair(other, 1, -d) is None, apart_pair(rule, 1, d) is None)
+            self.assertIs(all_heal(other, 2), all_heal(rule, 2))
+            for text in some_stands(rule):
+                back, at = mirror_of(text), len(text) - 1
+                changed = changed_seat(text, 0, "1")
+                self.assertEqual(changed_seat(back, at, "1"), mirror_of(changed))
+                self.assertEqual(spread_of(other, back, at, "1", 4), spread_of(rule, text, 0, "1", 4))
+                self.assertEqual(healed_after(other, back, at, "1"), healed_after(rule, text, 0, "1"))
+                told = sorted(at - seat for seat in unlike_seats(rule, text, changed, 2))
+                self.assertEqual(unlike_seats(other, back, mirror_of(changed), 2), told)
+
+    def test_webs_and_shapes(self):
+        for rule in some_rules():
+            other = rule.mirrored()
+            for p in (-1, 0, 1):
+                web, back = Web(rule, p, 1), Web(other, -p, 1)
+                self.assertEqual(back.windows(), sorted(mirror_of(row) for row in web.windows()))
+                self.assertEqual(back.nodes(), sorted(mirror_of(row) for row in web.nodes()))
+                self.assertEqual(sorted(back.periods()), sorted(web.periods()))
+                told = sorted(mirror_of(text) for text in shapes_of(rule, p, 1, 5))
+                self.assertEqual(shapes_of(other, -p, 1, 5), told)
+
+
+class RepeatsTest(unittest.TestCase):
+    """[11]"""
+
+    def test_repeats(self):
+        for rule in some_rules():
+            for text in some_stands(rule):
+                for times in (2, 3):
+                    more = text * times
+                    self.assertEqual(rule.ring_after(more), rule.ring_after(text) * times)
+                    self.assertEqual(after(rule, more, 5), after(rule, text, 5) * times)
+                    self.assertEqual(fate_of(rule, more), fate_of(rule, text))
+                    self.assertEqual(path_of(rule, more), [stand * times for stand in path_of(rule, text)])
+                    self.assertEqual(still_from(rule, more), still_from(rule, text))
+                    self.assertEqual(turning_fate(rule, more), turning_fate(rule, text))
+                    self.assertIs(rule.is_still(more), rule.is_still(text))
+                    self.assertIs(rule.stirs(more), rule.stirs(text))
+                    self.assertEqual(least_part(more), least_part(text))
+                    self.assertIs(is_shape(rule, more, 1, 2), is_shape(rule, text, 1, 2))
+
+
+if __name__ == "__main__":
+    unittest.main()
