@@ -13,11 +13,10 @@ def _first_pair(signs, middles, at):
     """Returns the least tuple of two rows that differ in one place alone and whose middles differ."""
     for row in middles:
         for sign in signs:
-            # A sign of the row itself, or a lesser one, gives no greater row.
-            if sign > row[at]:
-                other = changed_seat(row, at, sign)
-                if middles[other] != middles[row]:
-                    return (row, other)
+            # If other were the lesser one, the pair would have been found from there.
+            other = changed_seat(row, at, sign)
+            if middles[other] != middles[row]:
+                return (row, other)
     return None
 
 

@@ -16,9 +16,9 @@ def good_windows(rule, p, q):
 
 
 def steps_by(windows):
-    """Returns the dict from each row to the rows to which windows lead, all ascending."""
+    """Returns the dict from each row to the rows to which windows lead, all ascending as the windows."""
     steps = {}
-    for window in sorted(windows):
+    for window in windows:
         steps.setdefault(window[:-1], []).append(window[1:])
         steps.setdefault(window[1:], [])
     return {row: steps[row] for row in sorted(steps)}

@@ -167,8 +167,7 @@ class WebTest(unittest.TestCase):
         self.assertEqual(web.steps(), plain_web(Rule("0110", 0), 1, 3)[0])
 
     def test_answers_are_new(self):
-        web = Web(WAVE, 1, 1)
-        told = [web.windows(), web.nodes(), web.steps(), web.parts(), web.periods()]
+        web, other = Web(WAVE, 1, 1), Web(WAVE, 1, 1)
         web.windows().clear()
         web.nodes().clear()
         web.steps()["00"].clear()
@@ -176,7 +175,12 @@ class WebTest(unittest.TestCase):
         web.parts()[0].clear()
         web.parts().clear()
         web.periods().clear()
-        self.assertEqual([web.windows(), web.nodes(), web.steps(), web.parts(), web.periods()], told)
+        self.assertEqual(web.windows(), other.windows())
+        self.assertEqual(web.nodes(), other.nodes())
+        self.assertEqual(web.steps(), other.steps())
+        self.assertEqual(web.parts(), other.parts())
+        self.assertEqual(web.periods(), other.periods())
+        self.assertEqual(len(web), 4)
         lists = list(web.steps().values())
         self.assertEqual(len({id(row) for row in lists}), len(lists))
 
