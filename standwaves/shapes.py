@@ -2,7 +2,7 @@
 
 from standwaves.runs import after
 from standwaves.stands import is_alive, turned_by, turns_between
-from standwaves.walks import good_windows, stands_round, steps_by
+from standwaves.walks import shape_rounds
 
 
 def is_shape(rule, text, p, q):
@@ -22,14 +22,14 @@ def paces(rule, text, most):
 
 def shapes_of(rule, p, q, size):
     """Returns the ascending list of all stands of size seats that are shapes (p, q)."""
-    steps = steps_by(good_windows(rule, p, q))
-    return list(stands_round(steps, size))
+    rounds = shape_rounds(rule, p, q, size)
+    return list(rounds.texts())
 
 
 def least_shape(rule, p, q, size):
     """Returns the least shape (p, q) of size seats that is alive, None if there is none."""
-    steps = steps_by(good_windows(rule, p, q))
-    for text in stands_round(steps, size):
+    rounds = shape_rounds(rule, p, q, size)
+    for text in rounds.texts():
         if is_alive(text):
             return text
     return None

@@ -1,7 +1,8 @@
-"""Good windows as steps between rows, and the closed walks of such steps."""
+"""Good windows as steps between rows, the parts of these, and the walks that are shapes."""
 
 from math import gcd
 
+from standwaves.rounds import Rounds
 from standwaves.runs import row_after
 from standwaves.stands import all_stands
 
@@ -102,40 +103,12 @@ def period_of(steps, part):
     return period
 
 
-def _either(masks):
-    """Returns the integer that has the bits of all of these."""
-    total = 0
-    for mask in masks:
-        total |= mask
-    return total
+def closed_steps(rule, p, q):
+    """Returns the steps of the web of the shapes (p, q): those between rows of one part."""
+    steps = steps_by(good_windows(rule, p, q))
+    return steps_in(steps, parts_by(steps))
 
 
-def _reaches(steps, most):
-    """Returns the list of dicts, for 0 to most steps, from each row to the rows where they can end.
-
-    These are an integer, whose bit k stands for row k.
-    """
-    reaches = [{row: 1 << place for place, row in enumerate(steps)}]
-    for _ in range(most):
-        ahead = reaches[-1]
-        reaches.append({row: _either([ahead[other] for other in steps[row]]) for row in steps})
-    return reaches
-
-
-def stands_round(steps, size):
-    """Yields, ascending, the stands of size seats whose rows from each seat on are a closed walk."""
-    if size < 1:
-        return
-    reaches = _reaches(steps, size)
-    for place, first in enumerate(steps):
-        waiting = [(first, "")]
-        while waiting:
-            row, text = waiting.pop()
-            left = size - len(text)
-            # Only rows from which the walk can still be closed in time are
-            # gone on from, so that nothing is tried in vain.
-            if reaches[left][row] >> place & 1:
-                if left == 0:
-                    yield text
-                else:
-                    waiting.extend([(other, text + row[0]) for other in reversed(steps[row])])
+def shape_rounds(rule, p, q, size):
+    """Returns the Rounds whose stands are the shapes (p, q) of size seats."""
+    return Rounds([closed_steps(rule, p, q)] * size)

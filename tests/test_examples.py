@@ -53,7 +53,39 @@ SHAPES = '''
 [['0000', '0021', '0210', '1002', '2100'], '00021', None]
 '''
 
-EXAMPLES = [STAGE_1, STANDS, RUNS, SPREAD, WEBS, SHAPES]
+CALENDARS = '''
+>>> from standwaves.calendars import Calendar
+>>> odd = Calendar(5, [1, 2], 4, [1, 3])
+>>> [3 in odd, 7 in odd, odd.early, odd.start, odd.period, odd.rests]
+[False, True, [1, 2], 4, 2, [1]]
+>>> [(~odd).least_from(1), odd.least_from(10 ** 30), odd.gap_from(1), odd.many_below(10), odd.nth(10 ** 30)]
+[3, 1000000000000000000000000000001, 3, 5, 2000000000000000000000000000001]
+>>> steps = Calendar.of_steps([3, 5])
+>>> [steps.early, steps.start, steps.period, steps.within(~Calendar(8, [1, 2, 4, 7], 1, [])), (steps & odd).early]
+[[3, 5, 6], 8, 1, True, [5]]
+'''
+
+SIZES = '''
+>>> from standwaves.sizes import first_shape, gaps_of, sizes_of, sizes_within
+>>> [sizes_of(rule, 1, 1).start, sizes_of(rule, 1, 1).early, first_shape(rule, 3, 1), sizes_of(rule, 0, 1) == ~Calendar(1, [], 1, [0])]
+[3, [], (1, 1, '021'), True]
+'''
+
+COUNTS = '''
+>>> from standwaves.counts import counts_to, many_alive, many_shapes, many_turns, nth_shape, shape_number
+>>> [many_shapes(rule, 1, 1, 4), many_alive(rule, 1, 1, 4), many_turns(rule, 1, 1, 4), counts_to(rule, 1, 1, 4)]
+[5, 4, 2, [1, 1, 4, 5]]
+>>> [nth_shape(rule, 1, 1, 3, 1), shape_number(rule, 1, 1, "210"), shape_number(rule, 1, 1, "012")]
+['021', 3, None]
+'''
+
+ELDERS = '''
+>>> from standwaves.elders import elders_of, least_elder, many_elders, orphan_row, orphans_of
+>>> [elders_of(rule, "20"), many_elders(rule, "000"), least_elder(rule, "111"), orphans_of(rule, 1), orphan_row(rule)]
+[['12'], 8, None, ['1'], '010']
+'''
+
+EXAMPLES = [STAGE_1, STANDS, RUNS, SPREAD, WEBS, SHAPES, CALENDARS, SIZES, COUNTS, ELDERS]
 
 
 class ExamplesTest(unittest.TestCase):

@@ -1,11 +1,16 @@
-"""[5] windows, [6] walks, [10] sides, [11] repeats, as far as the files that are there go."""
+"""[5] windows, [6] walks, [7] calendars, [10] sides, [11] repeats, as far as the files that are there go."""
 
 import unittest
 
+from standwaves.calendars import Calendar
+from standwaves.counts import counts_to, many_alive, many_shapes, many_turns, nth_shape, shape_number
+from standwaves.elders import (
+    elders_before, elders_of, is_orphan_row, least_elder, many_elders, orphan_row, orphans_of)
 from standwaves.rules import Rule
 from standwaves.runs import (
     after, fate_of, late_after, path_of, row_after, standers, still_from, turning_fate)
 from standwaves.shapes import is_basic, is_shape, paces, shapes_of
+from standwaves.sizes import first_shape, gaps_of, sizes_alike, sizes_of, sizes_within
 from standwaves.spread import (
     all_heal, apart_pair, changed_seat, healed_after, matters_after, spread_of, unlike_seats)
 from standwaves.stands import (
@@ -46,6 +51,36 @@ class WalksTest(unittest.TestCase):
                         self.assertIs(web.walk_of(text) is not None, told)
                         rows = [window_at(text, seat, q)[:-1] for seat in range(len(text))]
                         self.assertIs(web.is_closed(rows), told)
+
+
+    def test_counts_are_those_of_closed_walks(self):
+        for rule in some_rules():
+            for p in (-1, 0, 1):
+                steps = Web(rule, p, 1).steps()
+                for size in (1, 2, 5):
+                    walks = [[row] for row in steps]
+                    for _ in range(size):
+                        walks = [walk + [row] for walk in walks for row in steps[walk[-1]]]
+                    closed = [walk for walk in walks if walk[0] == walk[-1]]
+                    self.assertEqual(many_shapes(rule, p, 1, size), len(closed))
+
+
+class CalendarsTest(unittest.TestCase):
+    """[7]"""
+
+    def test_sizes_go_by_rests(self):
+        for rests in range(3):
+            for rule in Rule.all_of(rests):
+                for p in (-1, 0, 1):
+                    sizes = sizes_of(rule, p, 1)
+                    for size in range(sizes.start, sizes.start + 2 * sizes.period):
+                        alive = many_alive(rule, p, 1, size) > 0
+                        self.assertIs(alive, size % sizes.period in sizes.rests)
+                        self.assertIs(many_alive(rule, p, 1, size + sizes.period) > 0, alive)
+                    if sizes.start > 1:
+                        last = sizes.start - 1
+                        self.assertIs(many_alive(rule, p, 1, last) > 0, last in sizes)
+                        self.assertIsNot(last in sizes, last % sizes.period in sizes.rests)
 
 
 class SidesTest(unittest.TestCase):
@@ -123,6 +158,39 @@ class SidesTest(unittest.TestCase):
                 self.assertEqual(shapes_of(other, -p, 1, 5), told)
 
 
+    def test_sizes_and_counts(self):
+        for rule in some_rules():
+            other = rule.mirrored()
+            self.assertEqual(sizes_within(other, 1), sizes_within(rule, 1))
+            self.assertEqual(sizes_alike(rule, other, 1) is None, sizes_alike(other, rule, 1) is None)
+            self.assertIs(first_shape(other, 4, 1) is None, first_shape(rule, 4, 1) is None)
+            for p in (-1, 0, 1):
+                self.assertEqual(sizes_of(other, -p, 1), sizes_of(rule, p, 1))
+                self.assertEqual(gaps_of(other, -p, 1), gaps_of(rule, p, 1))
+                self.assertEqual(counts_to(other, -p, 1, 12), counts_to(rule, p, 1, 12))
+                self.assertEqual(many_alive(other, -p, 1, 12), many_alive(rule, p, 1, 12))
+                self.assertEqual(many_turns(other, -p, 1, 12), many_turns(rule, p, 1, 12))
+                many = many_shapes(rule, p, 1, 5)
+                told = sorted(mirror_of(nth_shape(rule, p, 1, 5, number)) for number in range(many))
+                self.assertEqual([nth_shape(other, -p, 1, 5, number) for number in range(many)], told)
+                self.assertEqual([shape_number(other, -p, 1, text) for text in told], list(range(many)))
+
+    def test_elders(self):
+        for rule in some_rules():
+            other = rule.mirrored()
+            for text in some_stands(rule):
+                back = mirror_of(text)
+                self.assertEqual(elders_of(other, back), sorted(mirror_of(elder) for elder in elders_of(rule, text)))
+                self.assertEqual(many_elders(other, back), many_elders(rule, text))
+                self.assertIs(least_elder(other, back) is None, least_elder(rule, text) is None)
+                self.assertIs(is_orphan_row(other, back), is_orphan_row(rule, text))
+                if len(text) < 4:
+                    self.assertEqual(elders_before(other, back, 3), elders_before(rule, text, 3))
+            self.assertEqual(orphans_of(other, 3), sorted(mirror_of(text) for text in orphans_of(rule, 3)))
+            row, turned = orphan_row(rule), orphan_row(other)
+            self.assertEqual(row and len(row), turned and len(turned))
+
+
 class RepeatsTest(unittest.TestCase):
     """[11]"""
 
@@ -141,6 +209,24 @@ class RepeatsTest(unittest.TestCase):
                     self.assertIs(rule.stirs(more), rule.stirs(text))
                     self.assertEqual(least_part(more), least_part(text))
                     self.assertIs(is_shape(rule, more, 1, 2), is_shape(rule, text, 1, 2))
+
+    def test_sizes(self):
+        for rule in some_rules():
+            for p in (-1, 1):
+                sizes = sizes_of(rule, p, 1)
+                for size in range(1, 12):
+                    if size in sizes:
+                        self.assertTrue(Calendar(1, [], size, [0]).within(sizes))
+
+    def test_elders_and_numbers(self):
+        for rule in some_rules():
+            for text in some_stands(rule)[::3]:
+                twice = elders_of(rule, text * 2)
+                for elder in elders_of(rule, text):
+                    self.assertIn(elder * 2, twice)
+                for p in (-1, 0, 1):
+                    number = shape_number(rule, p, 1, text)
+                    self.assertIs(shape_number(rule, p, 1, text * 2) is None, number is None)
 
 
 if __name__ == "__main__":

@@ -19,6 +19,14 @@ FUNCTIONS = {
                "healed_after(rule, text, seat, sign)", "all_heal(rule, size)"],
     "shapes": ["is_shape(rule, text, p, q)", "is_basic(rule, text, p, q)", "paces(rule, text, most)",
                "shapes_of(rule, p, q, size)", "least_shape(rule, p, q, size)"],
+    "sizes": ["sizes_of(rule, p, q)", "sizes_within(rule, q)", "gaps_of(rule, p, q)",
+              "sizes_alike(one, other, q)", "first_shape(rule, size, q)"],
+    "counts": ["many_shapes(rule, p, q, size)", "many_alive(rule, p, q, size)",
+               "many_turns(rule, p, q, size)", "nth_shape(rule, p, q, size, number)",
+               "shape_number(rule, p, q, text)", "counts_to(rule, p, q, size)"],
+    "elders": ["many_elders(rule, text)", "elders_before(rule, text, many)", "least_elder(rule, text)",
+               "orphan_row(rule)", "elders_of(rule, text)", "orphans_of(rule, size)",
+               "is_orphan_row(rule, row)"],
 }
 CLASSES = {
     "rules": {"Rule": ["__init__(self, table, rests=1)", "__call__(self, left, seat, right)",
@@ -28,9 +36,15 @@ CLASSES = {
     "webs": {"Web": ["__init__(self, rule, p, q)", "windows(self)", "nodes(self)", "parts(self)",
                      "periods(self)", "steps(self)", "is_closed(self, thing)", "stand_of(self, thing)",
                      "walk_of(self, text)"]},
+    "calendars": {"Calendar": ["__init__(self, start, early, period, rests)", "within(self, other)",
+                               "least_from(self, number)", "gap_from(self, number)", "nth(self, place)",
+                               "many_below(self, number)", "of_steps(steps)"]},
 }
-PROPERTIES = {"Rule": ["table", "rests", "signs"], "Web": ["rule", "p", "q"]}
-OPERATORS = {"Rule": ["__eq__"], "Web": ["__eq__", "__len__"]}
+PROPERTIES = {"Rule": ["table", "rests", "signs"], "Web": ["rule", "p", "q"],
+              "Calendar": ["start", "early", "period", "rests"]}
+OPERATORS = {"Rule": ["__eq__"], "Web": ["__eq__", "__len__"],
+             "Calendar": ["__contains__", "__invert__", "__or__", "__and__", "__xor__", "__eq__"]}
+STATIC = {"rules": ("Rule", "all_of"), "calendars": ("Calendar", "of_steps")}
 
 
 def shown(name, function):
@@ -66,8 +80,9 @@ class InterfaceTest(unittest.TestCase):
                     self.assertIsInstance(vars(own)[name], property)
 
     def test_static_methods(self):
-        rules = importlib.import_module("standwaves.rules")
-        self.assertIsInstance(vars(rules.Rule)["all_of"], staticmethod)
+        for file, (class_name, name) in STATIC.items():
+            own = getattr(importlib.import_module(f"standwaves.{file}"), class_name)
+            self.assertIsInstance(vars(own)[name], staticmethod)
 
 
 if __name__ == "__main__":
