@@ -49,6 +49,7 @@ class CountsTest(unittest.TestCase):
         self.assertEqual(counts_to(flip, 0, 2, 30), [2 ** size for size in range(1, 31)])
         turns = Rule("1111", 1)
         self.assertEqual(many_shapes(turns, 0, 3, 5), 3 ** 5)
+        self.assertEqual(many_shapes(turns, 0, 3, 30), 3 ** 30)
 
     def test_counts_by_a_sum_of_two_ahead(self):
         # Rings of pieces "0" and "021": the numbers go by those one and three sizes less.

@@ -219,6 +219,8 @@ class AlikeTest(unittest.TestCase):
 
     def test_rules_with_unlike_rests(self):
         self.assertEqual(sizes_alike(WAVE, Rule("0111", 2), 1), (1, 1, 3))
+        self.assertEqual(sizes_alike(Rule("1000", 0), Rule("0000"), 2), (2, 0, 1))
+        self.assertEqual(sizes_alike(Rule("0000"), Rule("1000", 0), 2), (2, 0, 1))
         self.assertIsNone(sizes_alike(WAVE, Rule("0110"), 1))
         self.assertIsNone(sizes_alike(WAVE, WAVE, 1))
 
