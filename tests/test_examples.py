@@ -85,7 +85,42 @@ ELDERS = '''
 [['12'], 8, None, ['1'], '010']
 '''
 
-EXAMPLES = [STAGE_1, STANDS, RUNS, SPREAD, WEBS, SHAPES, CALENDARS, SIZES, COUNTS, ELDERS]
+CIRCLES = '''
+>>> from standwaves.circles import circle_of, circles_apart, circles_of, longest_way, many_that_come, periods_of, way_in
+>>> [circles_of(rule, 3), periods_of(rule, 3), many_that_come(rule, 3)]
+[[['000'], ['012', '120', '201'], ['021', '102', '210']], {1: 1, 3: 2}, {'000': 21, '012': 3, '021': 3}]
+>>> [longest_way(rule, 3), way_in(rule, "100"), circle_of(rule, "100"), len(circles_apart(rule, 3)), periods_of(rule, 4)]
+[(3, '001'), ['100', '211', '022'], ['000'], 3, {1: 1, 4: 2}]
+'''
+
+TURNING = '''
+>>> from standwaves.turning import changing_stand, heights_of, many_with, nth_with, place_with, steps_of, turning_number
+>>> [steps_of(rule, "0012"), turning_number(rule, "0012"), turning_number(rule, "021"), steps_of(Rule("0111", rests=2), "013")]
+[[0, 1, 1, 1], 1, -1, [1, 2, 1]]
+>>> [heights_of(rule, "0110"), heights_of(rule, "012"), changing_stand(rule), changing_stand(Rule("0011"))]
+[[0, 1, 1, 0], None, None, '001']
+>>> [[many_with(rule, 3, number) for number in (-1, 0, 1, 2)], nth_with(rule, 3, 1, 2), place_with(rule, "120")]
+[[3, 21, 3, 0], '201', 1]
+'''
+
+ENDS = '''
+>>> from standwaves.ends import end_of, late_stand, moving_from, quiet_after, same_end
+>>> [quiet_after("100"), quiet_after("012"), moving_from("01201"), end_of("021"), late_stand("01201", 10 ** 30 + 3)]
+[3, None, 3, (-1, 0), '01200']
+>>> [same_end("100", "000"), same_end("01201", "01200"), same_end("012", "120")]
+[True, False, False]
+'''
+
+WAVES = '''
+>>> from standwaves.waves import all_standing, beats_of, comes_from, how_often, last_beat, next_standing, standing_calendar
+>>> [beats_of("100", 1, 9), next_standing("100", 1, 2), last_beat("100", 0), comes_from("012", 0, 1), beats_of("012", 0, 4)]
+[[1], None, 0, ['right'], [1, 4, 7, 10]]
+>>> [how_often("012", 0, 10 ** 30), all_standing("012", 10 ** 30), standing_calendar("012", 0).rests]
+[333333333333333333333333333333, [0], [1]]
+'''
+
+EXAMPLES = [STAGE_1, STANDS, RUNS, SPREAD, WEBS, SHAPES, CALENDARS, SIZES, COUNTS, ELDERS, CIRCLES, TURNING,
+            ENDS, WAVES]
 
 
 class ExamplesTest(unittest.TestCase):

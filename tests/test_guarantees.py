@@ -1,11 +1,15 @@
-"""[5] windows, [6] walks, [7] calendars, [10] sides, [11] repeats, as far as the files that are there go."""
+"""[5] to [11], as far as the files that are there go."""
 
 import unittest
 
 from standwaves.calendars import Calendar
+from standwaves.circles import (
+    circle_of, circles_apart, circles_of, is_circle, longest_way, many_that_come, periods_of,
+    stands_with_fate, way_in)
 from standwaves.counts import counts_to, many_alive, many_shapes, many_turns, nth_shape, shape_number
 from standwaves.elders import (
     elders_before, elders_of, is_orphan_row, least_elder, many_elders, orphan_row, orphans_of)
+from standwaves.ends import end_of, last_standing, late_stand, moving_from, quiet_after, same_end
 from standwaves.rules import Rule
 from standwaves.runs import (
     after, fate_of, late_after, path_of, row_after, standers, still_from, turning_fate)
@@ -15,8 +19,15 @@ from standwaves.spread import (
     all_heal, apart_pair, changed_seat, healed_after, matters_after, spread_of, unlike_seats)
 from standwaves.stands import (
     all_turns, from_windows, least_part, least_turn, mirror_of, turned_by, turns_between, window_at)
+from standwaves.turning import (
+    are_heights, changing_stand, heights_of, is_even, keeps_turning, many_with, nth_with, place_with, steps_of,
+    turning_number)
+from standwaves.waves import (
+    all_standing, beats_of, comes_from, how_often, last_beat, next_standing, standing_calendar, stands_at)
 from standwaves.webs import Web
 from tests.plain import plain_stands, some_rules
+
+WAVE = Rule("0111")
 
 
 def some_stands(rule):
@@ -81,6 +92,40 @@ class CalendarsTest(unittest.TestCase):
                         last = sizes.start - 1
                         self.assertIs(many_alive(rule, p, 1, last) > 0, last in sizes)
                         self.assertIsNot(last in sizes, last % sizes.period in sizes.rests)
+
+
+class TurningTest(unittest.TestCase):
+    """[8]"""
+
+    def test_one_rest(self):
+        for rule in Rule.all_of(1):
+            kept = rule.table[1] == "1" and rule.table[2] == "1"
+            self.assertIs(keeps_turning(rule), kept)
+            three = plain_stands(rule, 3)
+            changed = [text for text in three
+                       if turning_number(rule, rule.ring_after(text)) != turning_number(rule, text)]
+            self.assertIs(changed == [], kept)
+            self.assertEqual(changing_stand(rule), None if kept else changed[0])
+            if kept:
+                for text in some_stands(rule) + ["012" * 13, "0120" * 10, "00012221110002220111"]:
+                    for later in (1, 2, 9):
+                        self.assertEqual(turning_number(rule, after(rule, text, later)), turning_number(rule, text))
+
+
+class StillTest(unittest.TestCase):
+    """[9]"""
+
+    def test_still_in_the_end(self):
+        stands = [text for size in range(1, 7) for text in plain_stands(WAVE, size)]
+        for text in stands + ["0" * 39 + "1", "2012012102102000", "012" * 6 + "0" + "210" * 6, "01" * 20]:
+            beats = quiet_after(text)
+            self.assertIs(beats is not None, turning_number(WAVE, text) == 0)
+            if beats is not None:
+                self.assertLessEqual(beats, len(text) // 2 + 2)
+                self.assertIs(WAVE.is_still(after(WAVE, text, beats)), True)
+                self.assertIs(beats == 0 or not WAVE.is_still(after(WAVE, text, beats - 1)), True)
+            if len(text) < 6:
+                self.assertEqual(still_from(WAVE, text), beats)
 
 
 class SidesTest(unittest.TestCase):
@@ -191,6 +236,65 @@ class SidesTest(unittest.TestCase):
             self.assertEqual(row and len(row), turned and len(turned))
 
 
+    def test_circles(self):
+        for rule in some_rules():
+            other = rule.mirrored()
+            for text in some_stands(rule):
+                back = mirror_of(text)
+                circle = [mirror_of(stand) for stand in circle_of(rule, text)]
+                self.assertEqual(sorted(circle_of(other, back)), sorted(circle))
+                self.assertIs(is_circle(other, circle), True)
+                self.assertEqual(way_in(other, back), [mirror_of(stand) for stand in way_in(rule, text)])
+            self.assertEqual(periods_of(other, 3), periods_of(rule, 3))
+            self.assertEqual(sorted(many_that_come(other, 3).values()), sorted(many_that_come(rule, 3).values()))
+            self.assertEqual(longest_way(other, 3)[0], longest_way(rule, 3)[0])
+            self.assertEqual(len(circles_apart(other, 3)), len(circles_apart(rule, 3)))
+            told = sorted(mirror_of(text) for text in stands_with_fate(rule, 3, 1, 1))
+            self.assertEqual(stands_with_fate(other, 3, 1, 1), told)
+
+    def test_turning(self):
+        for rule in (WAVE, Rule("0010"), Rule("0111", 2), Rule("0011", 2)):
+            other = rule.mirrored()
+            self.assertIs(keeps_turning(other), keeps_turning(rule))
+            for text in some_stands(rule):
+                back = mirror_of(text)
+                steps = [step if step == 2 else -step for step in steps_of(rule, text)[:-1]]
+                self.assertEqual(steps_of(other, back)[:-1], steps[::-1])
+                self.assertIs(is_even(other, back), is_even(rule, text))
+                if is_even(rule, text):
+                    number = turning_number(rule, text)
+                    self.assertEqual(turning_number(other, back), -number)
+                    self.assertIs(nth_with(other, len(text), -number, place_with(other, back)) == back, True)
+                    self.assertEqual(many_with(other, len(text), -number), many_with(rule, len(text), number))
+                heights = heights_of(rule, text)
+                self.assertIs(heights_of(other, back) is None, heights is None)
+                if heights is not None:
+                    self.assertIs(are_heights(other, back, heights[::-1]), True)
+
+    def test_ends_and_waves(self):
+        for text in some_stands(WAVE):
+            back, size = mirror_of(text), len(text)
+            number, beats = end_of(text)
+            self.assertEqual(end_of(back), (-number, beats))
+            self.assertEqual([quiet_after(back), moving_from(back)], [quiet_after(text), moving_from(text)])
+            if number == 0:
+                self.assertEqual(last_standing(back), sorted(size - 1 - seat for seat in last_standing(text)))
+            for beat in (0, 1, 2, 10 ** 39):
+                self.assertEqual(late_stand(back, beat), mirror_of(late_stand(text, beat)))
+                self.assertEqual(all_standing(back, beat), sorted(size - 1 - seat for seat in all_standing(text, beat)))
+                for seat in range(size):
+                    turned = size - 1 - seat
+                    self.assertIs(stands_at(back, turned, beat), stands_at(text, seat, beat))
+                    sides = [{"left": "right", "right": "left"}[side] for side in comes_from(text, seat, beat)]
+                    self.assertEqual(comes_from(back, turned, beat), sorted(sides))
+                    self.assertEqual(next_standing(back, turned, beat), next_standing(text, seat, beat))
+                    self.assertEqual(how_often(back, turned, beat), how_often(text, seat, beat))
+            self.assertEqual(standing_calendar(back, size - 1), standing_calendar(text, 0))
+            self.assertEqual(beats_of(back, size - 1, 5), beats_of(text, 0, 5))
+            for other in ("100", "012", "021", "000"):
+                self.assertIs(same_end(back, mirror_of(other)), same_end(text, other))
+
+
 class RepeatsTest(unittest.TestCase):
     """[11]"""
 
@@ -217,6 +321,35 @@ class RepeatsTest(unittest.TestCase):
                 for size in range(1, 12):
                     if size in sizes:
                         self.assertTrue(Calendar(1, [], size, [0]).within(sizes))
+
+    def test_circles_and_turning(self):
+        for rule in some_rules():
+            for text in some_stands(rule)[::2]:
+                for times in (2, 3):
+                    if len(text) * times < 9:
+                        circle = [stand * times for stand in circle_of(rule, text)]
+                        self.assertEqual(circle_of(rule, text * times), circle)
+                        self.assertEqual(way_in(rule, text * times), [stand * times for stand in way_in(rule, text)])
+                        self.assertIs(is_circle(rule, circle), True)
+            self.assertLessEqual(set(periods_of(rule, 1)), set(periods_of(rule, 3)))
+            self.assertLessEqual({text * 3 for text in many_that_come(rule, 1)}, set(many_that_come(rule, 3)))
+            self.assertLessEqual({circle[0] * 2 for circle in circles_of(rule, 2)},
+                                 {circle[0] for circle in circles_of(rule, 4)})
+
+    def test_ends_and_waves(self):
+        for text in some_stands(WAVE):
+            number, beats = end_of(text)
+            for times in (2, 3):
+                more = text * times
+                self.assertEqual(turning_number(WAVE, more), number * times)
+                self.assertEqual(end_of(more), (number * times, beats))
+                heights = heights_of(WAVE, text)
+                self.assertEqual(heights_of(WAVE, more), None if heights is None else heights * times)
+                self.assertEqual(late_stand(more, 10 ** 39), late_stand(text, 10 ** 39) * times)
+                if number == 0:
+                    self.assertEqual(last_beat(more, len(text)), last_beat(text, 0))
+                self.assertEqual(standing_calendar(more, len(text)), standing_calendar(text, 0))
+                self.assertIs(same_end(more, "012" * times), same_end(text, "012"))
 
     def test_elders_and_numbers(self):
         for rule in some_rules():
