@@ -67,10 +67,8 @@ def late_stand(text, many):
 
 def same_end(one, other):
     """Returns whether two stands, of unlike sizes too, are one and the same after some number of beats."""
-    if len(one) != len(other):
-        return False
-    if _number_of(one) != _number_of(other):
-        return False
+    # Then each beat turns both, by no place if they are still, and alike if
+    # they are the same: so what is unlike after so many beats stays so.
     beats = max(end_of(one)[1], end_of(other)[1])
     return late_stand(one, beats) == late_stand(other, beats)
 

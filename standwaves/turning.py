@@ -81,8 +81,6 @@ def heights_of(rule, text):
 
 def _ways_up(many, total):
     """Returns in how many ways so many steps of -1, 0 and 1 add up to a total."""
-    if abs(total) > many:
-        return 0
     return sum([comb(many, ups) * comb(many - ups, ups - total) for ups in range(max(0, total), many + 1)])
 
 
