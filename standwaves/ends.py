@@ -67,9 +67,9 @@ def late_stand(text, many):
 
 def same_end(one, other):
     """Returns whether two stands, of unlike sizes too, are one and the same after some number of beats."""
-    # Then each beat turns both, by no place if they are still, and alike if
-    # they are the same: so what is unlike after so many beats stays so.
     beats = max(end_of(one)[1], end_of(other)[1])
+    # From then on a beat only turns them, and alike if their numbers are the
+    # same: so what is not one and the same by then never will be.
     return late_stand(one, beats) == late_stand(other, beats)
 
 
