@@ -84,7 +84,7 @@ class SizesTest(unittest.TestCase):
                 self.assertEqual(caught.exception.limit, 30)
 
     def test_just_thirty_nodes(self):
-        # No Rule has such a web, so rings of steps stand for them.
+        # No Rule has such a web, for q within the bounds, so rings of steps stand for them.
         for many in (1, 29, 30, 31):
             with mock.patch("standwaves.sizes.closed_steps", lambda rule, p, q: ring_of_steps(many)):
                 if many > 30:
