@@ -3,16 +3,7 @@
 from math import gcd, lcm
 
 from standwaves.errors import Wrong
-from standwaves.kinds import is_integer, is_number
-
-
-def _are_between(thing, low, high):
-    """Returns whether any value is a list or a tuple of different integers from low on and below high."""
-    if not isinstance(thing, (list, tuple)):
-        return False
-    if not all([is_integer(number) and low <= number < high for number in thing]):
-        return False
-    return len(set(thing)) == len(thing)
+from standwaves.kinds import are_different, is_number
 
 
 def _least_period(period, rests):
@@ -67,11 +58,11 @@ class Calendar:
     def __init__(self, start, early, period, rests):
         if not is_number(start):
             raise Wrong(0)
-        if not _are_between(early, 1, start):
+        if not are_different(early, 1, start):
             raise Wrong(1)
         if not is_number(period):
             raise Wrong(2)
-        if not _are_between(rests, 0, period):
+        if not are_different(rests, 0, period):
             raise Wrong(3)
         self._period = _least_period(period, rests)
         self._rests = {rest: True for rest in sorted({rest % self._period for rest in rests})}

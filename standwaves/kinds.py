@@ -29,3 +29,12 @@ def is_stand(thing, signs):
 def is_table(thing):
     """Returns whether thing is a string of four characters 0 and 1."""
     return is_row(thing, "01") and len(thing) == 4
+
+
+def are_different(thing, low, high):
+    """Returns whether thing is a list or a tuple of different integers from low on and below high."""
+    if not isinstance(thing, (list, tuple)):
+        return False
+    if not all([is_integer(number) and low <= number < high for number in thing]):
+        return False
+    return len(set(thing)) == len(thing)

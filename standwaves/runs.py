@@ -17,22 +17,32 @@ def row_after(rule, row, many):
     return row
 
 
-def path_of(rule, text):
-    """Returns the list of the stands, beat by beat, up to the last one that did not come before."""
+def path_by(step, thing):
+    """Returns the list of a thing and what steps make of it, up to the last that did not come before."""
     path = []
     seen = set()
-    while text not in seen:
-        seen.add(text)
-        path.append(text)
-        text = rule.ring_after(text)
+    while thing not in seen:
+        seen.add(thing)
+        path.append(thing)
+        thing = step(thing)
     return path
+
+
+def fate_by(step, thing):
+    """Returns the least tuple (early, period) such that steps make the thing come again, and when."""
+    path = path_by(step, thing)
+    early = path.index(step(path[-1]))
+    return (early, len(path) - early)
+
+
+def path_of(rule, text):
+    """Returns the list of the stands, beat by beat, up to the last one that did not come before."""
+    return path_by(lambda stand: rule.ring_after(stand), text)
 
 
 def fate_of(rule, text):
     """Returns the least tuple (early, period) such that the stand comes again, and when."""
-    path = path_of(rule, text)
-    early = path.index(rule.ring_after(path[-1]))
-    return (early, len(path) - early)
+    return fate_by(lambda stand: rule.ring_after(stand), text)
 
 
 def late_after(rule, text, many):

@@ -119,8 +119,33 @@ WAVES = '''
 [333333333333333333333333333333, [0], [1]]
 '''
 
+RULESETS = '''
+>>> from standwaves.rulesets import alike_after, alike_groups, parted_after, quiet_tables
+>>> [parted_after(rule, Rule("0110"), 1), parted_after(Rule("0111", 0), rule, 1), alike_after(rule, Rule("0111"), 2)]
+['01', '1', True]
+>>> [len(alike_groups(1, 1, 1)), quiet_tables(1, 1)]
+[2, ['0000', '0001', '0010', '0011', '0100', '0101', '0110', '0111']]
+'''
+
+CHANGES = '''
+>>> from standwaves.changes import fewest_bits, harm_of, tables_of, tables_with_shape
+>>> [len(tables_of("012", "120", 1, 1)), tables_of("01", "01", 1, 1), len(tables_with_shape("012", -1, 1, 1))]
+[8, [], 8]
+>>> [fewest_bits(rule, "012", True), fewest_bits(rule, "000", False), harm_of(rule, "012")]
+[[1], [0], {0: None, 1: 1, 2: None, 3: None}]
+'''
+
+STUBBORN = '''
+>>> from standwaves.stubborn import cut_rows, held_after, held_quiet
+>>> from standwaves.ends_of_rows import row_beats, row_quiet
+>>> [held_after(rule, "0100", [0], 2), row_beats(rule, "100", 2), row_quiet(rule, "100"), held_quiet(rule, "0100", [0])]
+['0021', '021', 4, 4]
+>>> [cut_rows("01020", [2]), cut_rows("01020", [0, 4]), cut_rows("0", [0]), held_quiet(Rule("0111", rests=0), "010", [0])]
+[[(3, '2001')], [(1, '102')], [], None]
+'''
+
 EXAMPLES = [STAGE_1, STANDS, RUNS, SPREAD, WEBS, SHAPES, CALENDARS, SIZES, COUNTS, ELDERS, CIRCLES, TURNING,
-            ENDS, WAVES]
+            ENDS, WAVES, RULESETS, CHANGES, STUBBORN]
 
 
 class ExamplesTest(unittest.TestCase):

@@ -40,6 +40,14 @@ FUNCTIONS = {
     "waves": ["stands_at(text, seat, beat)", "all_standing(text, beat)", "comes_from(text, seat, beat)",
               "beats_of(text, seat, many)", "next_standing(text, seat, beat)",
               "how_often(text, seat, beat)", "standing_calendar(text, seat)", "last_beat(text, seat)"],
+    "rulesets": ["parted_after(one, other, many)", "alike_after(one, other, many)",
+                 "alike_groups(rests, many, size)", "quiet_tables(rests, size)"],
+    "changes": ["tables_of(text, later, rests, many)", "tables_with_shape(text, p, q, rests)",
+                "fewest_bits(rule, text, wish)", "harm_of(rule, text)"],
+    "stubborn": ["are_stubborn(text, thing)", "held_after(rule, text, seats, many)",
+                 "held_fate(rule, text, seats)", "held_quiet(rule, text, seats)", "cut_rows(text, seats)"],
+    "ends_of_rows": ["row_beats(rule, row, many)", "row_quiet(rule, row)", "row_fate(rule, row)",
+                     "joined_rows(rule, one, other)"],
 }
 CLASSES = {
     "rules": {"Rule": ["__init__(self, table, rests=1)", "__call__(self, left, seat, right)",

@@ -2,7 +2,7 @@
 
 import unittest
 
-from standwaves.kinds import is_count, is_integer, is_number, is_row, is_stand, is_table
+from standwaves.kinds import are_different, is_count, is_integer, is_number, is_row, is_stand, is_table
 from tests.plain import strange_values
 
 
@@ -57,6 +57,13 @@ class KindsTest(unittest.TestCase):
         self.assertIs(is_stand("", ""), False)
         self.assertIs(is_stand("3", "012"), False)
         self.assertIs(is_stand(["0"], "01"), False)
+
+    def test_different_integers(self):
+        self.assertEqual(self.held(are_different, 0, 9), [[], (), [1, 2]])
+        for thing in ([3, 8], (8, 3), [5], (3,)):
+            self.assertIs(are_different(thing, 3, 9), True)
+        for thing in ([2], [9], [3, 3], (3, 4, 3), [True], [3, False], ["3"], [[3]], {3}, {3: 3}, "3", 3, [10 ** 999]):
+            self.assertIs(are_different(thing, 1 if thing == [True] else 3, 9), False, thing)
 
     def test_values_are_not_changed(self):
         thing = ["0", ["1"]]
