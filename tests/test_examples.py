@@ -144,8 +144,41 @@ STUBBORN = '''
 [[(3, '2001')], [(1, '102')], [], None]
 '''
 
+MIXES = '''
+>>> from standwaves.mixes import mixed_after, mixed_fate, mixed_quiet, parting_stand, short_mix
+>>> mix = [rule, Rule("0000")]
+>>> [mixed_after(mix, "1000", 2), mixed_fate(mix, "1000"), mixed_quiet(mix, "1000"), parting_stand(mix, [rule], 2), len(short_mix(mix + mix))]
+['0202', (3, 1), 3, '012', 2]
+'''
+
+GAME = '''
+>>> from standwaves.game import Game
+>>> game = Game(rule, "0000")
+>>> game.do(("seat", 1, "1"))
+>>> game.do(("beats", 2))
+>>> [game.text, game.beats, game.undo(), game.text, game.redo(), len(game), list(game.past(1))]
+['2021', 2, ('beats', 2), '0100', ('beats', 2), 2, [('seat', 1, '1')]]
+>>> game.do(("seat", 0, "0"))
+>>> game.do(("hold", 0))
+>>> [game.held(), game.trial(lambda other: other.undo()), game.held()]
+[[0], ('hold', 0), [0]]
+'''
+
+STAGE_9 = r'''
+>>> from standwaves.notation import show_calendar, show_deed, show_path, show_rule
+>>> [show_rule(rule), show_calendar(odd), show_calendar(Calendar(1, [], 1, [])), show_deed(("turn", -3)), show_path(["10", "21"])]
+['0111 1', '4 1,2 2 1', '1 none 1 none', 'turn -3', '10\n21']
+>>> from standwaves.readers import read_calendar, read_deed, read_rule, read_shape
+>>> [read_rule("0111 1") == rule, read_calendar("4 1,2 2 1") == odd, read_shape("-1/2"), read_deed("seat 0 1")]
+[True, True, (-1, 2), ('seat', 0, '1')]
+>>> from standwaves.desk import Desk
+>>> desk = Desk(rule, "1000")
+>>> [desk.execute(line) for line in ["beats 1", "text", "hold 2", "held", "still", "turning", "undo", "size 7 1 1", "sizes 1 1"]]
+['ok', '2101', 'ok', '2', '3', '0', 'hold 2', 'yes', '3 none 1 0']
+'''
+
 EXAMPLES = [STAGE_1, STANDS, RUNS, SPREAD, WEBS, SHAPES, CALENDARS, SIZES, COUNTS, ELDERS, CIRCLES, TURNING,
-            ENDS, WAVES, RULESETS, CHANGES, STUBBORN]
+            ENDS, WAVES, RULESETS, CHANGES, STUBBORN, MIXES, GAME, STAGE_9]
 
 
 class ExamplesTest(unittest.TestCase):

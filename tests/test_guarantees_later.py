@@ -1,9 +1,12 @@
-"""[10] and [11] for rulesets, changes, stubborn and ends_of_rows."""
+"""[10] and [11] for the files of the stages 7 to 9, as far as stands go."""
 
 import unittest
 
 from standwaves.changes import fewest_bits, harm_of, tables_of, tables_with_shape
 from standwaves.ends_of_rows import joined_rows, row_beats, row_fate, row_quiet
+from standwaves.game import Game
+from standwaves.mixes import (
+    is_mixed_shape, mirrored_mix, mixed_after, mixed_fate, mixed_quiet, parting_stand, shifted_mix, short_mix)
 from standwaves.rules import Rule
 from standwaves.rulesets import alike_after, alike_groups, parted_after, quiet_tables
 from standwaves.runs import after
@@ -35,8 +38,45 @@ def some_seats(text):
     return [(), tuple(sitting), tuple(sitting[:1]), tuple(sitting[-1:]), tuple(sitting[1::2])]
 
 
+def some_mixes():
+    """Returns lists of Rules."""
+    return [[Rule("0010"), Rule("0111")], [Rule("0100")], [Rule("1001", 0), Rule("0010", 0), Rule("0010", 0)],
+            [Rule("0010", 2), Rule("1100", 2)] * 2]
+
+
 class SidesTest(unittest.TestCase):
     """[10]"""
+
+    def test_mixes(self):
+        for rules in some_mixes():
+            others = mirrored_mix(rules)
+            self.assertEqual(others, [rule.mirrored() for rule in rules])
+            self.assertEqual(mirrored_mix(others), rules)
+            self.assertEqual(short_mix(others), mirrored_mix(short_mix(rules)))
+            self.assertEqual(shifted_mix(others, 7), mirrored_mix(shifted_mix(rules, 7)))
+            for more in some_mixes():
+                if more[0].rests == rules[0].rests:
+                    told = parting_stand(rules, more, 2)
+                    back = parting_stand(others, mirrored_mix(more), 2)
+                    self.assertEqual(told and len(told), back and len(back))
+            for text in some_stands(rules[0]):
+                back = mirror_of(text)
+                self.assertEqual(mixed_after(others, back, 5), mirror_of(mixed_after(rules, text, 5)))
+                self.assertEqual(mixed_fate(others, back), mixed_fate(rules, text))
+                self.assertEqual(mixed_quiet(others, back), mixed_quiet(rules, text))
+                for p in (-1, 0, 1):
+                    self.assertIs(is_mixed_shape(others, back, -p, 2), is_mixed_shape(rules, text, p, 2))
+
+    def test_games(self):
+        game, back = Game(Rule("0010"), "010020"), Game(Rule("0100"), "020010")
+        for deed, turned in ((("beats", 1), ("beats", 1)), (("hold", 0), ("hold", 5)), (("turn", 2), ("turn", -2)),
+                             (("table", "1011"), ("table", "1101")), (("beats", 3), ("beats", 3)),
+                             (("free", 2), ("free", 3)), (("seat", 1, "2"), ("seat", 4, "2"))):
+            game.do(deed)
+            back.do(turned)
+            self.assertEqual(back.text, mirror_of(game.text))
+            self.assertEqual((back.rule, back.beats), (game.rule.mirrored(), game.beats))
+            self.assertEqual(back.held(), sorted(5 - seat for seat in game.held()))
 
     def test_rulesets(self):
         for one in some_rules():
@@ -96,6 +136,17 @@ class SidesTest(unittest.TestCase):
 
 class RepeatsTest(unittest.TestCase):
     """[11]"""
+
+    def test_mixes(self):
+        for rules in some_mixes():
+            for text in some_stands(rules[0])[::2]:
+                for times in (2, 3):
+                    more = text * times
+                    self.assertEqual(mixed_after(rules, more, 5), mixed_after(rules, text, 5) * times)
+                    self.assertEqual(mixed_fate(rules, more), mixed_fate(rules, text))
+                    self.assertEqual(mixed_quiet(rules, more), mixed_quiet(rules, text))
+                    for p in (-1, 0, 1):
+                        self.assertIs(is_mixed_shape(rules, more, p, 2), is_mixed_shape(rules, text, p, 2))
 
     def test_changes(self):
         for rule in some_rules():

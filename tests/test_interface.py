@@ -48,6 +48,13 @@ FUNCTIONS = {
                  "held_fate(rule, text, seats)", "held_quiet(rule, text, seats)", "cut_rows(text, seats)"],
     "ends_of_rows": ["row_beats(rule, row, many)", "row_quiet(rule, row)", "row_fate(rule, row)",
                      "joined_rows(rule, one, other)"],
+    "mixes": ["are_mixed(thing)", "is_mixed_shape(rules, text, p, rounds)", "mixed_after(rules, text, many)",
+              "mixed_fate(rules, text)", "mixed_quiet(rules, text)", "short_mix(rules)", "shifted_mix(rules, many)",
+              "mirrored_mix(rules)", "parting_stand(one, other, many)"],
+    "notation": ["show_rule(rule)", "show_calendar(calendar)", "show_shape(shape)", "show_deed(deed)",
+                 "show_log(game)", "show_path(stands)"],
+    "readers": ["read_rule(text)", "read_calendar(text)", "read_shape(text)", "read_deed(text)", "read_path(text)",
+                "read_log(rule, text, lines)"],
 }
 CLASSES = {
     "rules": {"Rule": ["__init__(self, table, rests=1)", "__call__(self, left, seat, right)",
@@ -60,10 +67,13 @@ CLASSES = {
     "calendars": {"Calendar": ["__init__(self, start, early, period, rests)", "within(self, other)",
                                "least_from(self, number)", "gap_from(self, number)", "nth(self, place)",
                                "many_below(self, number)", "of_steps(steps)"]},
+    "game": {"Game": ["__init__(self, rule, text)", "held(self)", "log(self)", "do(self, deed)", "undo(self)",
+                      "redo(self)", "past(self, many)", "copied(self)", "trial(self, act)"]},
+    "desk": {"Desk": ["__init__(self, rule, text)", "execute(self, line)"]},
 }
 PROPERTIES = {"Rule": ["table", "rests", "signs"], "Web": ["rule", "p", "q"],
-              "Calendar": ["start", "early", "period", "rests"]}
-OPERATORS = {"Rule": ["__eq__"], "Web": ["__eq__", "__len__"],
+              "Calendar": ["start", "early", "period", "rests"], "Game": ["text", "rule", "beats"], "Desk": []}
+OPERATORS = {"Rule": ["__eq__"], "Web": ["__eq__", "__len__"], "Game": ["__eq__", "__len__", "__iter__"], "Desk": [],
              "Calendar": ["__contains__", "__invert__", "__or__", "__and__", "__xor__", "__eq__"]}
 STATIC = {"rules": ("Rule", "all_of"), "calendars": ("Calendar", "of_steps")}
 
