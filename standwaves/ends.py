@@ -1,34 +1,25 @@
-"""What stands come to at last by the Rule("0111"): still ones, or such that turn beat by beat."""
+"""What stands come to at last by the Rule("0111"): still ones, or such that turn beat by beat.
 
+The heights of a stand with a turning number tell that from half of its seats and two more beats
+on each beat only turns it; by then all sit if the number is 0.
+"""
+
+from standwaves.crowds import first_crowds, seats_of, stand_of, turned_crowd
 from standwaves.errors import Turns
-from standwaves.rules import Rule
-from standwaves.runs import after
-from standwaves.stands import is_alive, turned_by
-from standwaves.turning import turning_number
+from standwaves.stands import turned_by
 
 
-def wave_rule():
-    """Returns the Rule of this file."""
-    return Rule("0111")
+def beats_until_turns(text):
+    """Returns a number of beats after which each beat only turns a stand."""
+    return len(text) // 2 + 2
 
 
-def _number_of(text):
+def number_of(text):
     """Returns the turning number of a stand."""
-    return turning_number(wave_rule(), text)
-
-
-def quiet_after(text):
-    """Returns the least number of beats after which a stand is still, None if it never is."""
-    if _number_of(text) != 0:
-        return None
-    # Just the stands of this turning number are still in the end, so the
-    # beats do not go on for ever.
-    rule = wave_rule()
-    beats = 0
-    while is_alive(text):
-        text = rule.ring_after(text)
-        beats += 1
-    return beats
+    ring = text + text[0]
+    ups = ring.count("01") + ring.count("12") + ring.count("20")
+    downs = ring.count("10") + ring.count("21") + ring.count("02")
+    return (ups - downs) // 3
 
 
 def _places_of(number):
@@ -38,50 +29,63 @@ def _places_of(number):
     return -1 if number > 0 else 1
 
 
+def quiet_after(text):
+    """Returns the least number of beats after which a stand is still, None if it never is."""
+    if number_of(text) != 0:
+        return None
+    crowds = first_crowds(text, beats_until_turns(text))
+    beats = [beat for beat, crowd in enumerate(crowds) if crowd > 0]
+    # Those that stand last rest a beat later and sit after two; where nobody
+    # ever stands some may still rest.
+    return beats[-1] + 2 if beats else int("2" in text)
+
+
 def moving_from(text):
     """Returns the least number of beats from which on each beat turns a stand by one, None if none does."""
-    places = _places_of(_number_of(text))
+    places = _places_of(number_of(text))
     if places == 0:
         return None
-    # What a beat once turns, it turns for ever.
-    rule = wave_rule()
-    beats = 0
-    while rule.ring_after(text) != turned_by(text, places):
-        text = rule.ring_after(text)
-        beats += 1
-    return beats
+    crowds = first_crowds(text, beats_until_turns(text))
+    beats = len(crowds) - 1
+    while beats > 0 and crowds[beats] == turned_crowd(crowds[beats - 1], places, len(text)):
+        beats -= 1
+    # Who rests stood a beat ahead, but for those that rest at first.
+    if beats == 0 and late_stand(text, 1) == turned_by(text, places):
+        return 0
+    return beats + 1
 
 
 def end_of(text):
     """Returns the tuple of a stand's turning number and after how many beats it is still, or moves."""
-    number = _number_of(text)
+    number = number_of(text)
     return (number, quiet_after(text) if number == 0 else moving_from(text))
 
 
 def late_stand(text, many):
     """Returns a stand after many beats, a number of any length."""
-    number, beats = end_of(text)
-    early = after(wave_rule(), text, min(many, beats))
-    return turned_by(early, _places_of(number) * max(0, many - beats))
+    if many == 0:
+        return text
+    beats = min(many, beats_until_turns(text))
+    crowds = first_crowds(text, beats)
+    stand = stand_of(crowds[beats], crowds[beats - 1], len(text))
+    return turned_by(stand, _places_of(number_of(text)) * (many - beats))
 
 
 def same_end(one, other):
     """Returns whether two stands, of unlike sizes too, are one and the same after some number of beats."""
-    beats = max(end_of(one)[1], end_of(other)[1])
+    if len(one) != len(other):
+        return False
     # From then on a beat only turns them, and alike if their numbers are the
     # same: so what is not one and the same by then never will be.
+    beats = beats_until_turns(one)
     return late_stand(one, beats) == late_stand(other, beats)
 
 
 def last_standing(text):
     """Returns the ascending list of the seats that stand when anybody stands for the last time; or Turns."""
-    number = _number_of(text)
+    number = number_of(text)
     if number != 0:
         raise Turns(number)
-    rule = wave_rule()
-    seats = []
-    while is_alive(text):
-        if "1" in text:
-            seats = [seat for seat, sign in enumerate(text) if sign == "1"]
-        text = rule.ring_after(text)
-    return seats
+    crowds = first_crowds(text, beats_until_turns(text))
+    standing = [crowd for crowd in crowds if crowd > 0]
+    return seats_of(standing[-1], len(text)) if standing else []

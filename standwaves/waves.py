@@ -1,7 +1,8 @@
 """At which beats a seat stands, by the Rule("0111")."""
 
 from standwaves.calendars import Calendar
-from standwaves.ends import end_of, late_stand, wave_rule
+from standwaves.crowds import first_crowds, has_seat, seats_of
+from standwaves.ends import beats_until_turns, late_stand, number_of
 from standwaves.errors import Turns
 
 
@@ -24,53 +25,57 @@ def comes_from(text, seat, beat):
     return [side for side, sign in sides if sign == "1"]
 
 
-def _first_beats(text, seat, many):
-    """Returns the ascending list of the beats below many at which a seat stands, each looked at."""
-    rule = wave_rule()
-    beats = []
-    for beat in range(many):
-        if text[seat] == "1":
-            beats.append(beat)
-        text = rule.ring_after(text)
-    return beats
+def _beats_told(text, seat):
+    """Returns the tuple (early, late) of the ascending beats at which a seat stands.
+
+    Late ones are those from `beats_until_turns` on, of as many beats as there are seats: this
+    round comes again and again. Early ones are those ahead of it.
+    """
+    size = len(text)
+    start = beats_until_turns(text)
+    crowds = first_crowds(text, start)
+    early = [beat for beat, crowd in enumerate(crowds[:-1]) if has_seat(crowd, seat, size)]
+    # A stand whose turning number is above 0 is turned to the left, so what
+    # the seats to the right have comes next.
+    side = 1 if number_of(text) > 0 else -1
+    late = [start + (other - seat) * side % size for other in seats_of(crowds[-1], size)]
+    return (early, sorted(late))
 
 
 def standing_calendar(text, seat):
     """Returns the Calendar of the beats from 1 on at which a seat stands."""
-    # From start on each beat turns the stand by one place, or nobody stands
-    # any more: so it goes by rests, with the number of seats as a period.
-    start = end_of(text)[1] + 1
+    early, late = _beats_told(text, seat)
     size = len(text)
-    beats = _first_beats(text, seat, start + size)
-    early = [beat for beat in beats if 0 < beat < start]
-    return Calendar(start, early, size, [beat % size for beat in beats if beat >= start])
+    return Calendar(beats_until_turns(text), [beat for beat in early if beat > 0], size, [beat % size for beat in late])
 
 
 def beats_of(text, seat, many):
     """Returns the ascending list of the first beats, at most many, at which a seat stands."""
-    calendar = standing_calendar(text, seat)
-    first = [0] if text[seat] == "1" else []
-    later = [calendar.nth(place) for place in range(many)]
-    return (first + [beat for beat in later if beat is not None])[:many]
+    early, late = _beats_told(text, seat)
+    rounds = many // len(late) + 1 if late else 0
+    return (early + [beat + number * len(text) for number in range(rounds) for beat in late])[:many]
 
 
 def next_standing(text, seat, beat):
     """Returns the least beat not below this one at which a seat stands, None if there is none."""
-    if beat == 0 and text[seat] == "1":
-        return 0
-    return standing_calendar(text, seat).least_from(max(1, beat))
+    early, late = _beats_told(text, seat)
+    coming = [other for other in early if other >= beat]
+    # A late beat comes again each time that as many beats are over as there are seats.
+    again = [other if other >= beat else beat + (other - beat) % len(text) for other in late]
+    return min(coming + again, default=None)
 
 
 def how_often(text, seat, beat):
     """Returns at how many beats below this one a seat stands."""
-    first = 1 if beat > 0 and text[seat] == "1" else 0
-    return first + standing_calendar(text, seat).many_below(max(1, beat))
+    early, late = _beats_told(text, seat)
+    rounds = [(beat - 1 - other) // len(text) + 1 for other in late if other < beat]
+    return len([other for other in early if other < beat]) + sum(rounds)
 
 
 def last_beat(text, seat):
     """Returns the last beat at which a seat stands, None if it never does; or Turns."""
-    number, beats = end_of(text)
+    number = number_of(text)
     if number != 0:
         raise Turns(number)
-    standing = _first_beats(text, seat, beats)
-    return standing[-1] if standing else None
+    early = _beats_told(text, seat)[0]
+    return early[-1] if early else None
