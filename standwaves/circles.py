@@ -1,25 +1,28 @@
 """Circles: the stands that come again for ever, and the ways to them."""
 
 from standwaves.kinds import is_stand
-from standwaves.runs import fate_of, path_of
-from standwaves.stands import all_stands, least_turn
+from standwaves.laters import later_numbers
+from standwaves.runs import path_of
+from standwaves.stands import all_stands, all_turns
 
 
-def _begun_at_least(circle):
-    """Returns a circle begun at its least stand."""
-    first = circle.index(min(circle))
-    return circle[first:] + circle[:first]
+def _way_and_circle(rule, text):
+    """Returns the tuple of the stands from this one on that are ahead of its circle, and of those in it."""
+    path = path_of(rule, text)
+    early = path.index(rule.ring_after(path[-1]))
+    return (path[:early], path[early:])
 
 
 def circle_of(rule, text):
     """Returns the circle to which a stand comes, begun at its least stand."""
-    early = fate_of(rule, text)[0]
-    return _begun_at_least(path_of(rule, text)[early:])
+    circle = _way_and_circle(rule, text)[1]
+    first = circle.index(min(circle))
+    return circle[first:] + circle[:first]
 
 
 def way_in(rule, text):
     """Returns the list of the stands from this one on that are ahead of its circle."""
-    return path_of(rule, text)[:fate_of(rule, text)[0]]
+    return _way_and_circle(rule, text)[0]
 
 
 def is_circle(rule, thing):
@@ -34,14 +37,52 @@ def is_circle(rule, thing):
     return all([rule.ring_after(text) == other for text, other in zip(thing, later)])
 
 
+def _ways(later):
+    """Returns two lists: for each number the least one of the circle to which it comes, and how many are ahead."""
+    on_the_way = len(later)
+    leasts = [None] * len(later)
+    aheads = [0] * len(later)
+    for first in range(len(later)):
+        way = []
+        number = first
+        while leasts[number] is None:
+            leasts[number] = on_the_way
+            way.append(number)
+            number = later[number]
+        if leasts[number] == on_the_way:
+            # The way came to itself, so its end is a circle that was not known.
+            at = way.index(number)
+            least = min(way[at:])
+            for other in way[at:]:
+                leasts[other] = least
+            way = way[:at]
+        for other in reversed(way):
+            leasts[other] = leasts[later[other]]
+            aheads[other] = aheads[later[other]] + 1
+    return (leasts, aheads)
+
+
+def _circles_by(later, leasts):
+    """Returns the list of the circles of numbers, each begun at its least, by these."""
+    circles = []
+    for least in [number for number, other in enumerate(leasts) if number == other]:
+        circle = [least]
+        while later[circle[-1]] != least:
+            circle.append(later[circle[-1]])
+        circles.append(circle)
+    return circles
+
+
+def _circles(rule, size):
+    """Returns the list of the circles of numbers of stands of size seats."""
+    later = later_numbers(rule, size)
+    return _circles_by(later, _ways(later)[0])
+
+
 def circles_of(rule, size):
     """Returns the list of all circles of stands of size seats, each begun at its least, by these."""
-    circles = []
-    for text in all_stands(rule.signs, size):
-        circle = circle_of(rule, text)
-        if circle[0] == text:
-            circles.append(circle)
-    return circles
+    stands = all_stands(rule.signs, size)
+    return [[stands[number] for number in circle] for circle in _circles(rule, size)]
 
 
 def _how_many(things):
@@ -54,34 +95,44 @@ def _how_many(things):
 
 def periods_of(rule, size):
     """Returns the dict from the lengths of the circles to how many there are."""
-    return _how_many([len(circle) for circle in circles_of(rule, size)])
+    return _how_many([len(circle) for circle in _circles(rule, size)])
 
 
 def many_that_come(rule, size):
     """Returns the dict from the least stands of the circles to how many stands come to them."""
-    return _how_many([circle_of(rule, text)[0] for text in all_stands(rule.signs, size)])
+    stands = all_stands(rule.signs, size)
+    come = _how_many(_ways(later_numbers(rule, size))[0])
+    return {stands[least]: come[least] for least in come}
 
 
 def longest_way(rule, size):
     """Returns the tuple of the greatest number of stands ahead of a circle, and the least such stand."""
-    best = (-1, "")
-    for text in all_stands(rule.signs, size):
-        early = fate_of(rule, text)[0]
-        if early > best[0]:
-            best = (early, text)
-    return best
+    aheads = _ways(later_numbers(rule, size))[1]
+    most = max(aheads)
+    return (most, all_stands(rule.signs, size)[aheads.index(most)])
 
 
 def stands_with_fate(rule, size, early, period):
     """Returns the ascending list of the stands of size seats that have this fate."""
-    return [text for text in all_stands(rule.signs, size) if fate_of(rule, text) == (early, period)]
+    later = later_numbers(rule, size)
+    leasts, aheads = _ways(later)
+    periods = {circle[0]: len(circle) for circle in _circles_by(later, leasts)}
+    return [text for text, least, ahead in zip(all_stands(rule.signs, size), leasts, aheads)
+            if ahead == early and periods[least] == period]
 
 
 def circles_apart(rule, size):
     """Returns the list of the circles that none ahead of them becomes by turning all its stands alike."""
-    # A beat turns with the stands, so two circles are one by turning just if a
-    # stand of the one is one of the other, turned.
-    apart = {}
-    for circle in circles_of(rule, size):
-        apart.setdefault(min([least_turn(text) for text in circle]), circle)
-    return list(apart.values())
+    # A beat turns with the stands, so what a circle becomes by turning are the
+    # circles of its first stand, turned.
+    later = later_numbers(rule, size)
+    leasts = _ways(later)[0]
+    stands = all_stands(rule.signs, size)
+    seen = set()
+    apart = []
+    for circle in _circles_by(later, leasts):
+        if circle[0] not in seen:
+            apart.append([stands[number] for number in circle])
+            for turn in all_turns(stands[circle[0]]):
+                seen.add(leasts[int(turn, len(rule.signs))])
+    return apart

@@ -1,7 +1,7 @@
 """Elders: from which stands a stand can have come."""
 
+from standwaves.laters import later_numbers, numbers_after
 from standwaves.rounds import Rounds
-from standwaves.runs import after
 from standwaves.stands import all_stands
 
 
@@ -34,14 +34,13 @@ def elders_of(rule, text):
 
 def elders_before(rule, text, many):
     """Returns how many stands are this one after many beats."""
-    return len([elder for elder in all_stands(rule.signs, len(text)) if after(rule, elder, many) == text])
+    return numbers_after(rule, len(text), many).count(int(text, len(rule.signs)))
 
 
 def orphans_of(rule, size):
     """Returns the ascending list of the stands of size seats that have no elders."""
-    stands = all_stands(rule.signs, size)
-    later = {rule.ring_after(text): True for text in stands}
-    return [text for text in stands if text not in later]
+    come = set(later_numbers(rule, size))
+    return [text for number, text in enumerate(all_stands(rule.signs, size)) if number not in come]
 
 
 def _next_pairs(rule, pairs, sign):

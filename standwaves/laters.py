@@ -4,7 +4,13 @@
 def _ends_by(rule):
     """Returns, for each pair of signs, ascending, the list of what its second becomes beside each third."""
     signs = rule.signs
-    return [[int(rule(left, seat, right)) for right in signs] for left in signs for seat in signs]
+    # Only a seat that sits asks who is beside it.
+    others = [[int(rule("0", seat, "0"))] * len(signs) for seat in signs[1:]]
+    ends = []
+    for left in signs:
+        ends.append([int(rule(left, "0", right)) for right in signs])
+        ends.extend(others)
+    return ends
 
 
 def _inner_numbers(ends, many, size):
@@ -20,9 +26,13 @@ def _inner_numbers(ends, many, size):
 
 def later_numbers(rule, size):
     """Returns the list, for all stands of size seats, of the numbers of the stands a beat later."""
-    many = len(rule.signs)
+    signs = rule.signs
+    many = len(signs)
     if size == 1:
-        return [int(rule(sign, sign, sign)) for sign in rule.signs]
+        return [int(rule(sign, sign, sign)) for sign in signs]
+    if size == 2:
+        return [int(rule(other, sign, other)) * many + int(rule(sign, other, sign))
+                for sign in signs for other in signs]
     ends = _ends_by(rule)
     inners = _inner_numbers(ends, many, size)
     # What the first and the last seat become is told by the digits of the

@@ -5,11 +5,12 @@ from standwaves.kinds import is_integer, is_table
 from standwaves.stands import is_alive
 
 
-def _sign_after(table, signs, left, seat, right):
-    """Returns the sign that a seat between two neighbours has a beat later."""
-    if seat == "0":
-        return table[2 * int(left == "1") + int(right == "1")]
-    return signs[(int(seat) + 1) % len(signs)]
+def _middles_by(table, signs):
+    """Returns the dict from all rows of three signs to what their middles become a beat later."""
+    following = dict(zip(signs[1:], signs[2:] + "0"))
+    standing = {sign: int(sign == "1") for sign in signs}
+    return {left + seat + right: table[2 * standing[left] + standing[right]] if seat == "0" else following[seat]
+            for left in signs for seat in signs for right in signs}
 
 
 class Rule:
@@ -25,8 +26,7 @@ class Rule:
         signs = "0123"[:2 + rests]
         self._signs = signs
         # Kept for all rows of three, since beats ask for nothing else.
-        self._becomes = {left + seat + right: _sign_after(table, signs, left, seat, right)
-                         for left in signs for seat in signs for right in signs}
+        self._becomes = _middles_by(table, signs)
 
     @property
     def table(self):

@@ -1,6 +1,6 @@
 """What a stand becomes, beat by beat, and when it comes again."""
 
-from standwaves.stands import least_turn, turns_between
+from standwaves.stands import all_stands, least_turn, turns_between
 
 
 def after(rule, text, many):
@@ -15,6 +15,17 @@ def row_after(rule, row, many):
     for _ in range(many):
         row = rule.inner_after(row)
     return row
+
+
+def middles_after(rule, many):
+    """Returns the dict from all rows of 2 * many + 1 signs, ascending, to what their middles become."""
+    middles = {sign: sign for sign in rule.signs}
+    for beats in range(1, many + 1):
+        # Of a row a beat less makes three characters, and the last beat one.
+        inner = middles
+        middles = {row: rule(inner[row[:-2]], inner[row[1:-1]], inner[row[2:]])
+                   for row in all_stands(rule.signs, 2 * beats + 1)}
+    return middles
 
 
 def path_by(step, thing):

@@ -1,12 +1,7 @@
 """How far a seat that is changed changes others, and whether this heals."""
 
-from standwaves.runs import after, fate_of, row_after
+from standwaves.runs import after, fate_of, middles_after
 from standwaves.stands import all_stands
-
-
-def _middles_after(rule, many):
-    """Returns the dict from all rows of 2 * many + 1 signs, ascending, to what their middles become."""
-    return {row: row_after(rule, row, many) for row in all_stands(rule.signs, 2 * many + 1)}
 
 
 def _first_pair(signs, middles, at):
@@ -22,7 +17,7 @@ def _first_pair(signs, middles, at):
 
 def matters_after(rule, many):
     """Returns the ascending list of the offsets that matter after many beats."""
-    middles = _middles_after(rule, many)
+    middles = middles_after(rule, many)
     return [d for d in range(-many, many + 1) if _first_pair(rule.signs, middles, many + d) is not None]
 
 
@@ -30,7 +25,7 @@ def apart_pair(rule, many, d):
     """Returns the least tuple of two rows that show that the offset d matters, None if it does not."""
     if abs(d) > many:
         return None
-    return _first_pair(rule.signs, _middles_after(rule, many), many + d)
+    return _first_pair(rule.signs, middles_after(rule, many), many + d)
 
 
 def changed_seat(text, seat, sign):

@@ -3,26 +3,33 @@
 from math import gcd
 
 from standwaves.rounds import Rounds
-from standwaves.runs import row_after
+from standwaves.runs import middles_after
 from standwaves.stands import all_stands
+
+
+def windows_by(middles, p, q):
+    """Returns the ascending list of the good windows, p from -q to q, by what all middles become after q beats."""
+    return [row for row, middle in middles.items() if middle == row[q - p]]
 
 
 def good_windows(rule, p, q):
     """Returns the ascending list of the good windows of a shape (p, q)."""
+    middles = middles_after(rule, q)
+    reach = abs(p)
+    if reach <= q:
+        return windows_by(middles, p, q)
     # A p beyond q asks for a seat outside of what the middle depends on.
-    reach = max(q, abs(p))
     rows = all_stands(rule.signs, 2 * reach + 1)
-    return [row for row in rows
-            if row_after(rule, row[reach - q:reach + q + 1], q) == row[reach - p]]
+    return [row for row in rows if middles[row[reach - q:reach + q + 1]] == row[reach - p]]
 
 
-def steps_by(windows):
+def _steps_by(windows):
     """Returns the dict from each row to the rows to which windows lead, all ascending as the windows."""
     steps = {}
     for window in windows:
         steps.setdefault(window[:-1], []).append(window[1:])
-        steps.setdefault(window[1:], [])
-    return {row: steps[row] for row in sorted(steps)}
+    # Rows from which no window leads are on no closed walk.
+    return {row: [other for other in steps[row] if other in steps] for row in steps}
 
 
 def _steps_back(steps):
@@ -79,11 +86,17 @@ def parts_by(steps):
     return sorted(parts)
 
 
-def steps_in(steps, parts):
-    """Returns the dict, rows ascending, of the steps that stay within a part."""
+def web_by(windows):
+    """Returns the tuple (steps, parts) of the web of good windows.
+
+    Steps are the dict, rows ascending, from each row to those to which steps within a part lead.
+    """
+    steps = _steps_by(windows)
+    parts = parts_by(steps)
     part_of = {row: number for number, part in enumerate(parts) for row in part}
-    return {row: [other for other in steps[row] if part_of.get(other) == part_of[row]]
-            for row in sorted(part_of)}
+    within = {row: [other for other in steps[row] if part_of.get(other) == part_of[row]]
+              for row in sorted(part_of)}
+    return (within, parts)
 
 
 def period_of(steps, part):
@@ -103,12 +116,7 @@ def period_of(steps, part):
     return period
 
 
-def closed_steps(rule, p, q):
-    """Returns the steps of the web of the shapes (p, q): those between rows of one part."""
-    steps = steps_by(good_windows(rule, p, q))
-    return steps_in(steps, parts_by(steps))
-
-
 def shape_rounds(rule, p, q, size):
     """Returns the Rounds whose stands are the shapes (p, q) of size seats."""
-    return Rounds([closed_steps(rule, p, q)] * size)
+    steps = web_by(good_windows(rule, p, q))[0]
+    return Rounds([steps] * size)

@@ -4,7 +4,7 @@ from standwaves.errors import NoWalk, Wrong
 from standwaves.kinds import is_integer, is_number
 from standwaves.rules import Rule
 from standwaves.stands import window_at
-from standwaves.walks import good_windows, parts_by, period_of, steps_by, steps_in
+from standwaves.walks import good_windows, period_of, web_by
 
 
 class Web:
@@ -21,9 +21,7 @@ class Web:
         self._p = p
         self._q = q
         self._windows = good_windows(rule, p, q)
-        steps = steps_by(self._windows)
-        self._parts = parts_by(steps)
-        self._steps = steps_in(steps, self._parts)
+        self._steps, self._parts = web_by(self._windows)
 
     @property
     def rule(self):

@@ -9,6 +9,7 @@ from standwaves.errors import TooMany
 from standwaves.rules import Rule
 from standwaves.shapes import is_shape
 from standwaves.sizes import first_shape, gaps_of, sizes_alike, sizes_of, sizes_within
+from standwaves.walks import parts_by
 from standwaves.webs import Web
 from tests.plain import plain_after, plain_stands, plain_turn, some_rules
 
@@ -38,6 +39,11 @@ def ring_of_steps(many):
     """Returns steps of a ring of so many rows that are alive."""
     rows = ["1" + f"{number:02d}" for number in range(many)]
     return {row: [rows[(number + 1) % many]] for number, row in enumerate(rows)}
+
+
+def made_web(steps):
+    """Returns what puts these steps in place of those of any good windows."""
+    return mock.patch("standwaves.sizes.web_by", lambda windows: (steps, parts_by(steps)))
 
 
 class SizesTest(unittest.TestCase):
@@ -86,7 +92,7 @@ class SizesTest(unittest.TestCase):
     def test_just_thirty_nodes(self):
         # No Rule has such a web, for q within the bounds, so rings of steps stand for them.
         for many in (1, 29, 30, 31):
-            with mock.patch("standwaves.sizes.closed_steps", lambda rule, p, q: ring_of_steps(many)):
+            with made_web(ring_of_steps(many)):
                 if many > 30:
                     self.assertRaises(TooMany, sizes_of, WAVE, 0, 1)
                 else:
@@ -97,7 +103,7 @@ class SizesTest(unittest.TestCase):
         steps = ring_of_steps(30)
         rows = list(steps)
         steps[rows[-1]] = [rows[0], rows[1]]
-        with mock.patch("standwaves.sizes.closed_steps", lambda rule, p, q: steps):
+        with made_web(steps):
             self.assertEqual(sizes_of(WAVE, 0, 1), Calendar.of_steps([29, 30]))
 
 
@@ -158,7 +164,7 @@ class GapsTest(unittest.TestCase):
         steps = ring_of_steps(6)
         rows = list(steps)
         steps[rows[3]] = [rows[0], rows[4]]
-        with mock.patch("standwaves.sizes.closed_steps", lambda rule, p, q: steps):
+        with made_web(steps):
             self.assertEqual(told(sizes_of(WAVE, 0, 1)), (3, [], 2, [0]))
             self.assertEqual(gaps_of(WAVE, 0, 1), [2])
 
