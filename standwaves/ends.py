@@ -73,8 +73,6 @@ def late_stand(text, many):
 
 def same_end(one, other):
     """Returns whether two stands, of unlike sizes too, are one and the same after some number of beats."""
-    if len(one) != len(other):
-        return False
     # From then on a beat only turns them, and alike if their numbers are the
     # same: so what is not one and the same by then never will be.
     beats = beats_until_turns(one)
