@@ -34,6 +34,8 @@ def elders_of(rule, text):
 
 def elders_before(rule, text, many):
     """Returns how many stands are this one after many beats."""
+    if many == 0:
+        return 1
     return numbers_after(rule, len(text), many).count(int(text, len(rule.signs)))
 
 

@@ -52,11 +52,15 @@ class Rule:
 
     def ring_after(self, text):
         """Returns a stand a beat later."""
-        return self.inner_after(text[-1] + text + text[0])
+        # Written out rather than by inner_after, since nothing is asked more often.
+        becomes = self._becomes
+        row = text[-1] + text + text[0]
+        return "".join([becomes[row[at:at + 3]] for at in range(len(text))])
 
     def inner_after(self, row):
         """Returns what becomes of the characters of a row that have neighbours on both sides."""
-        return "".join([self._becomes[row[at:at + 3]] for at in range(len(row) - 2)])
+        becomes = self._becomes
+        return "".join([becomes[row[at:at + 3]] for at in range(len(row) - 2)])
 
     def mirrored(self):
         """Returns the Rule that has left and right exchanged."""
