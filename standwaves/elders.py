@@ -70,7 +70,8 @@ def orphan_row(rule):
     rows = [("", all_stands(rule.signs, 2))]
     while rows:
         longer = []
-        for row, pairs in rows:
+        # A copy is walked, since both names come to stand for one list below.
+        for row, pairs in list(rows):
             for sign in rule.signs:
                 left = _next_pairs(rule, pairs, sign)
                 if len(left) == 0:

@@ -10,6 +10,43 @@ import standwaves
 FOLDER = pathlib.Path(standwaves.__file__).parent
 LIBRARY = {"heapq", "math", "itertools"}
 NOT_ALLOWED = (ast.Global, ast.AsyncFunctionDef, ast.Await, ast.Import, ast.Set, ast.Div, ast.AnnAssign)
+CHANGES = {"append", "extend", "insert", "pop", "remove", "clear", "update", "setdefault", "add", "discard", "sort"}
+
+
+def same_names(function):
+    """Returns the dict from each name that is assigned to another one to the set of names for one thing."""
+    groups = {}
+    for node in ast.walk(function):
+        if isinstance(node, ast.Assign) and isinstance(node.value, ast.Name):
+            for target in node.targets:
+                if isinstance(target, ast.Name):
+                    group = groups.get(target.id, {target.id}) | groups.get(node.value.id, {node.value.id})
+                    groups.update(dict.fromkeys(group, group))
+    return groups
+
+
+def changed_names(loop):
+    """Returns the names whose things a loop changes."""
+    changed = []
+    for node in ast.walk(loop):
+        if isinstance(node, ast.Call) and isinstance(node.func, ast.Attribute) and node.func.attr in CHANGES:
+            changed.append(node.func.value)
+        elif isinstance(node, ast.Subscript) and not isinstance(node.ctx, ast.Load):
+            changed.append(node.value)
+        elif isinstance(node, ast.AugAssign):
+            changed.append(node.target)
+    return {node.id for node in changed if isinstance(node, ast.Name)}
+
+
+def changed_while_walked(function):
+    """Returns the names that a loop of a function walks straight and changes, by any name."""
+    groups = same_names(function)
+    names = []
+    for loop in ast.walk(function):
+        if isinstance(loop, ast.For) and isinstance(loop.iter, ast.Name):
+            if groups.get(loop.iter.id, {loop.iter.id}) & changed_names(loop):
+                names.append(loop.iter.id)
+    return names
 
 
 class FormTest(unittest.TestCase):
@@ -57,6 +94,21 @@ class FormTest(unittest.TestCase):
         for name, _, tree in self.files():
             for node in ast.walk(tree):
                 self.assertNotIsInstance(node, NOT_ALLOWED, name)
+
+    def test_no_loop_changes_what_it_walks(self):
+        for name, _, tree in self.files():
+            for node in ast.walk(tree):
+                if isinstance(node, ast.FunctionDef):
+                    self.assertEqual(changed_while_walked(node), [], name)
+
+    def test_a_loop_that_changes_what_it_walks_is_found(self):
+        body = "    for row in {walked}:\n        {change}\n    rows = longer\n"
+        for walked, change, found in [
+                ("rows", "longer.append(row)", ["rows"]), ("rows", "rows[0] = row", ["rows"]),
+                ("rows", "del longer[0]", ["rows"]), ("longer", "rows += row", ["longer"]),
+                ("list(rows)", "longer.append(row)", []), ("rows", "others.append(row)", [])]:
+            text = "def f(rows, longer, others):\n" + body.format(walked=walked, change=change)
+            self.assertEqual(changed_while_walked(ast.parse(text)), found, text)
 
     def test_no_name_of_a_builtin_is_given_another_meaning(self):
         known = {name for name in dir(builtins) if not name.startswith("_")}
